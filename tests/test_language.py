@@ -1,4 +1,8 @@
-"""The package keeps to the small part of Python that LANGUAGE.md tells; what can be seen of it is asked here."""
+"""The package keeps to the small part of Python that LANGUAGE.md tells.
+
+Asked here is what is easily seen: files, signs, sizes, forms, names, methods and imports. Not asked, or only in
+part, are L13, L15, L18, L19, L22 to L24, L26 to L28: those are for the reader.
+"""
 
 import ast
 import builtins

@@ -136,7 +136,7 @@ class PlainWalkTest(unittest.TestCase):
                 self.walk(wishes, owns, order)
 
     def test_three_hands_and_four_things(self):
-        # Every seventh is enough, for the things' names alone tell many of these apart.
+        # Every seventh of the wishes and some owns and orders: all of them would run for minutes.
         for wishes in helper.all_wishes(3, 4)[::7]:
             for owns in ((None, None, None), (3, None, None), (0, None, 2), (1, 2, 0), (None, 3, 1)):
                 for order in ([0, 1, 2], [2, 0, 1]):
