@@ -1,18 +1,12 @@
 """The dealing by rings, round by round, and as a whole."""
 
+from ringtrade.dealings import best_left, dealing_of, got_in, owner_left
 from ringtrade.wishes import order_of, things_in
 
 
-def best_left(row, things):
-    return [thing for thing in row if thing in things][0]
-
-
 def hand_pointed_at(owns, line, thing):
-    # The line holds only hands that are left, so what a hand left behind counts as free.
-    for hand in line:
-        if owns[hand] == thing:
-            return hand
-    return line[0]
+    owner = owner_left(owns, line, thing)
+    return line[0] if owner is None else owner
 
 
 def ring_from(first, targets, behind):
@@ -35,14 +29,6 @@ def rings_of_round(wishes, owns, line, things):
     return sorted([ring for ring in walks if ring is not None])
 
 
-def got_in(rings):
-    got = {}
-    for ring in rings:
-        for hand, thing in ring:
-            got[hand] = thing
-    return got
-
-
 def rounds(wishes, owns, order=None):
     line = order_of(wishes, order)
     things = list(range(things_in(wishes)))
@@ -61,4 +47,4 @@ def by_rings(wishes, owns, order=None):
     got = {}
     for rings in rounds(wishes, owns, order):
         got.update(got_in(rings))
-    return tuple([got[hand] for hand in range(len(wishes))])
+    return dealing_of(got)

@@ -25,8 +25,12 @@ def first_wrong(numbers, bound):
     return len(numbers)
 
 
+def are_unlike(numbers, bound):
+    return first_wrong(numbers, bound) == len(numbers)
+
+
 def has_each_once(numbers, bound):
-    return len(numbers) == bound and first_wrong(numbers, bound) == bound
+    return len(numbers) == bound and are_unlike(numbers, bound)
 
 
 def wishes_of(rows):

@@ -1,8 +1,28 @@
-"""What several tests walk over: small wishes, owns, orders, dealings, and point 10 walked plainly."""
+"""What several tests walk over: small wishes, owns, orders, dealings, rings, and points 10, 12, 16 walked plainly."""
 
 import copy
 import random
 from itertools import permutations, product
+
+from ringtrade.errors import NoOrder
+
+# Lists that are no orders of three hands, each with the place that is told of it.
+NO_ORDERS = (
+    ([], 0), ([1], 1), ([0, 1], 2), ([3], 0), ([0, 0, 1], 1), ([2, 0, 2], 2), ([0, 1, 3], 2), ([-1, 1, 2], 0),
+    ([0, 1, 2, 0], 3), ([0, 1, 2, 3], 3), ([True, 0, 2], 0), ([1, False, 2], 1), ([0, None, 2], 1),
+    ([0, 1, "2"], 2), ([10 ** 59, 0, 1], 0), ([0, 1, 2] * 100, 3),
+)
+
+
+def refuses_what_is_no_order(test, deal):
+    """Asks deal, which deals to three hands by an order, with each list that is none."""
+    for order, at in NO_ORDERS:
+        with test.subTest(order):
+            before = list(order)
+            with test.assertRaises(NoOrder) as caught:
+                deal(order)
+            test.assertEqual(caught.exception.at, at)
+            test.assertEqual(order, before)
 
 
 def all_wishes(hands, things):
@@ -25,6 +45,36 @@ def all_orders(hands):
 
 def all_dealings(hands, things):
     return list(permutations(range(things), hands))
+
+
+def all_owned(hands):
+    """The owns in which all is owned, of as many things as hands."""
+    return list(permutations(range(hands)))
+
+
+def all_rings_of_hands(hands):
+    """Each tuple of unlike hands, one or more."""
+    return [ring for many in range(1, hands + 1) for ring in permutations(range(hands), many)]
+
+
+def some_square(many, seed, most=7):
+    """Wishes, owns in which all is owned, and dealings, the same ones each time."""
+    source = random.Random(seed)
+    asked = []
+    for turn in range(many):
+        hands = turn % most + 1
+        wishes = tuple(tuple(source.sample(range(hands), hands)) for hand in range(hands))
+        asked.append((wishes,) + tuple(tuple(source.sample(range(hands), hands)) for both in range(2)))
+    return asked
+
+
+def some_dealings(many, seed):
+    """Wishes and dealings of all sizes that are told, the same ones each time."""
+    source = random.Random(seed)
+    asked = []
+    for wishes, owns, order in some_asked(many, seed):
+        asked.append((wishes, tuple(source.sample(range(len(wishes[0])), len(wishes)))))
+    return asked
 
 
 def some_asked(many, seed):
@@ -88,6 +138,62 @@ def plain_rounds(wishes, owns, order):
             hands -= {hand for hand, thing in ring}
             things -= {thing for hand, thing in ring}
     return told
+
+
+def plain_asked(wishes, owns, order):
+    """What is told of point 12, walked word for word."""
+    hands = list(order)
+    free = set(range(len(wishes[0]))) - set(owns)
+    askers = []
+    told = []
+
+    def best(hand):
+        owned = {owns[other] for other in hands} - {None}
+        return min(free | owned, key=wishes[hand].index)
+
+    def leaves(hand, thing):
+        hands.remove(hand)
+        askers.remove(hand)
+        free.discard(thing)
+
+    def let_go(hands_gone, taken):
+        free.update({owns[hand] for hand in hands_gone} - {None} - set(taken))
+
+    while hands:
+        if not askers:
+            askers.append(hands[0])
+        last = askers[-1]
+        thing = best(last)
+        if thing in free or thing == owns[last]:
+            leaves(last, thing)
+            let_go([last], [thing])
+            told.append(("takes", last, thing))
+            continue
+        owner = [hand for hand in hands if owns[hand] == thing][0]
+        if owner not in askers:
+            askers.append(owner)
+            told.append(("ahead", owner, owns[owner]))
+            continue
+        members = askers[askers.index(owner):]
+        pairs = [(member, owns[members[(k + 1) % len(members)]]) for k, member in enumerate(members)]
+        for hand, got in pairs:
+            leaves(hand, got)
+        turn = pairs.index(min(pairs))
+        told.append(("ring", tuple(pairs[turn:] + pairs[:turn])))
+    return told
+
+
+def plain_by_order(wishes, order):
+    got = {}
+    for hand in order:
+        got[hand] = [thing for thing in wishes[hand] if thing not in got.values()][0]
+    return tuple(got[hand] for hand in range(len(wishes)))
+
+
+def better_dealings(wishes, dealing):
+    """Each dealing that is better for one and worse for nobody."""
+    others = all_dealings(len(wishes), len(wishes[0]))
+    return [other for other in others if other != dealing and like_no_less(wishes, dealing, other)]
 
 
 def copies(thing):

@@ -14,6 +14,10 @@ TOLD = {
     },
     "texts": {"rows_text": "(wishes, owns)", "rows_read": "(text)"},
     "rings": {"rounds": "(wishes, owns, order=None)", "by_rings": "(wishes, owns, order=None)"},
+    "asking": {"asked": "(wishes, owns, order=None)", "by_asking": "(wishes, owns, order=None)"},
+    "groups": {"goes": "(wishes, owns, dealing, ring)", "goers": "(wishes, owns, dealing)"},
+    "bettering": {"betterment": "(wishes, dealing)", "bettered": "(wishes, dealing, way)"},
+    "orders": {"by_order": "(wishes, order=None)", "order_behind": "(wishes, dealing)"},
 }
 
 

@@ -173,6 +173,15 @@ class LanguageTest(unittest.TestCase):
                 self.assertIn(alias.name, tops[node.module.split(".")[1]], where)
                 self.assertIsNone(alias.asname, where)
 
+    def test_no_parameter_and_no_local_is_called_like_an_import_or_a_class(self):
+        for stem, tree in trees():
+            taken = {alias.name for node in imports(tree) for alias in node.names}
+            taken |= {node.name for node in tree.body if isinstance(node, ast.ClassDef)}
+            for function in ast.walk(tree):
+                if isinstance(function, ast.FunctionDef):
+                    inner = bound_names(function) - {function.name}
+                    self.assertEqual(sorted(inner & taken), [], f"{stem}.py, {function.name}")
+
     def test_no_two_files_draw_from_one_another(self):
         draws = {stem: {node.module.split(".")[1] for node in imports(tree)} for stem, tree in trees()}
         while draws:
