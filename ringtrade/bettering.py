@@ -1,6 +1,7 @@
 """Betterments of a dealing, rings and lines of hands, and dealings bettered by them."""
 
 from ringtrade.dealings import ones_behind
+from ringtrade.steps import ring_of_steps
 from ringtrade.wishes import likes, things_in
 
 
@@ -14,31 +15,16 @@ def line_for(wishes, dealing):
     return None
 
 
-def envied(wishes, dealing, hand, others):
-    return [other for other in others if likes(wishes, hand, dealing[other], dealing[hand])]
-
-
-def hands_with_envy(wishes, dealing):
-    # Who envies none of those left stands in no ring, so what stays has a ring, or is nothing.
-    hands = []
-    staying = list(range(len(wishes)))
-    while len(staying) != len(hands):
-        hands = staying
-        staying = [hand for hand in hands if envied(wishes, dealing, hand, hands)]
-    return hands
+def hands_envied(wishes, dealing, hand):
+    return [other for other, thing in enumerate(dealing) if likes(wishes, hand, thing, dealing[hand])]
 
 
 def ring_for(wishes, dealing):
-    hands = hands_with_envy(wishes, dealing)
-    if not hands:
-        return None
-    walk = []
-    hand = hands[0]
-    while hand not in walk:
-        walk.append(hand)
-        hand = envied(wishes, dealing, hand, hands)[0]
-    # The walk may have come into the ring from outside of it.
-    return ("ring", tuple(walk[walk.index(hand):]))
+    steps = {}
+    for hand in range(len(wishes)):
+        steps[hand] = hands_envied(wishes, dealing, hand)
+    hands = ring_of_steps(steps)
+    return None if hands is None else ("ring", tuple(hands))
 
 
 def betterment(wishes, dealing):

@@ -3,11 +3,11 @@
 from ringtrade.dealings import ones_behind
 from ringtrade.errors import NotOwned
 from ringtrade.rings import rounds
-from ringtrade.wishes import are_unlike, is_below, likes, things_in
+from ringtrade.wishes import are_unlike, is_below, is_square, likes
 
 
 def refuse_unless_all_owned(wishes, owns):
-    if things_in(wishes) > len(wishes):
+    if not is_square(wishes):
         raise NotOwned(-1)
     for hand, own in enumerate(owns):
         # A truth is no thing, so it is owning nothing as None is.

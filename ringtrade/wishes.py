@@ -1,6 +1,6 @@
 """Wishes, owns and orders: how they are made of lists, what is refused, and what wishes tell."""
 
-from ringtrade.errors import NoOrder, NoOwn, NoRow, TooMany
+from ringtrade.errors import NoOrder, NoOwn, NoRow, NotSquare, TooMany
 
 MOST_HANDS = 7
 MOST_THINGS = 8
@@ -33,9 +33,13 @@ def has_each_once(numbers, bound):
     return len(numbers) == bound and are_unlike(numbers, bound)
 
 
-def wishes_of(rows):
+def refuse_too_many_rows(rows):
     if len(rows) < 1 or len(rows) > MOST_HANDS:
         raise TooMany("there must be from one to seven rows")
+
+
+def wishes_of(rows):
+    refuse_too_many_rows(rows)
     things = len(rows[0])
     if things < len(rows) or things > MOST_THINGS:
         raise TooMany("there must be as many things as hands or more, and at most eight")
@@ -47,6 +51,15 @@ def wishes_of(rows):
 
 def things_in(wishes):
     return len(wishes[0])
+
+
+def is_square(wishes):
+    return things_in(wishes) == len(wishes)
+
+
+def refuse_unless_square(wishes):
+    if not is_square(wishes):
+        raise NotSquare("there must be as many things as hands")
 
 
 def owns_of(wishes, things):

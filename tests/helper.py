@@ -1,8 +1,9 @@
-"""What several tests walk over: small wishes, owns, orders, dealings, rings, and points 10, 12, 16 walked plainly."""
+"""What several tests walk over: small wishes, owns, orders, dealings, rings, tables, and points walked plainly."""
 
 import copy
 import random
-from itertools import permutations, product
+from fractions import Fraction
+from itertools import accumulate, permutations, product
 
 from ringtrade.errors import NoOrder
 
@@ -194,6 +195,74 @@ def better_dealings(wishes, dealing):
     """Each dealing that is better for one and worse for nobody."""
     others = all_dealings(len(wishes), len(wishes[0]))
     return [other for other in others if other != dealing and like_no_less(wishes, dealing, other)]
+
+
+def pair_of(worth):
+    """A fraction as the program tells it."""
+    return (worth.numerator, worth.denominator)
+
+
+def plain_table(rows):
+    return tuple(tuple(pair_of(Fraction(worth)) for worth in row) for row in rows)
+
+
+def worths(shares):
+    return [Fraction(top, bottom) for top, bottom in shares]
+
+
+def plain_sums(row, shares):
+    return list(accumulate(worths(shares)[thing] for thing in row))
+
+
+def plain_no_less(row, shares, others):
+    return all(one >= other for one, other in zip(plain_sums(row, shares), plain_sums(row, others)))
+
+
+def all_tables(hands, parts):
+    """Each table of shares of which all shares are so many parts of one."""
+    rows = [row for row in product(range(parts + 1), repeat=hands) if sum(row) == parts]
+    squares = [square for square in product(rows, repeat=hands) if all(sum(column) == parts for column in zip(*square))]
+    return [plain_table([[Fraction(part, parts) for part in row] for row in square]) for square in squares]
+
+
+def some_tables(many, seed, most=7):
+    """Wishes and tables of shares, mixed of a few dealings, the same ones each time."""
+    source = random.Random(seed)
+    asked = []
+    for wishes, owns, dealing in some_square(many, seed, most):
+        hands = len(wishes)
+        dealings = [source.sample(range(hands), hands) for turn in range(source.randint(1, 4))]
+        weights = [source.randint(1, 6) for mixed in dealings]
+        rows = [[0] * hands for hand in range(hands)]
+        for mixed, weight in zip(dealings, weights):
+            for hand, thing in enumerate(mixed):
+                rows[hand][thing] += Fraction(weight, sum(weights))
+        asked.append((wishes, plain_table(rows)))
+    return asked
+
+
+def some_with_like_rows(many, seed, most=7):
+    """Square wishes in which few rows stand, so that some hands have like ones, the same ones each time."""
+    source = random.Random(seed)
+    asked = []
+    for turn in range(many):
+        hands = turn % most + 1
+        rows = [tuple(source.sample(range(hands), hands)) for both in range(2)]
+        asked.append(tuple(source.choice(rows) for hand in range(hands)))
+    return asked
+
+
+def has_like_shares_for_like_rows(wishes, table):
+    places = list(zip(wishes, table))
+    return all(shares == others for row, shares in places for other, others in places if row == other)
+
+
+def stays_and_is_told_again(test, ask, *asked):
+    """Asks twice with the same things: the answers are equal, and the things stay as they were."""
+    before = copies(asked)
+    first = copies(ask(*asked))
+    test.assertEqual(ask(*asked), first)
+    test.assertEqual(asked, before)
 
 
 def copies(thing):

@@ -18,6 +18,26 @@ TOLD = {
     "groups": {"goes": "(wishes, owns, dealing, ring)", "goers": "(wishes, owns, dealing)"},
     "bettering": {"betterment": "(wishes, dealing)", "bettered": "(wishes, dealing, way)"},
     "orders": {"by_order": "(wishes, order=None)", "order_behind": "(wishes, dealing)"},
+    "fractions": {
+        "fraction": "(top, bottom)",
+        "plus": "(a, b)",
+        "minus": "(a, b)",
+        "times": "(a, b)",
+        "less": "(a, b)",
+    },
+    "lots": {"lot": "(wishes)", "lot_of_ownings": "(wishes)"},
+    "eating": {
+        "eaten": "(wishes)",
+        "sums_along": "(wishes, hand, shares)",
+        "no_less": "(wishes, hand, shares, others)",
+    },
+    "tables": {
+        "table_of": "(rows)",
+        "heights": "(wishes, table)",
+        "share_ring": "(wishes, table)",
+        "can_hand": "(table, ring)",
+        "handed": "(table, ring, part)",
+    },
 }
 
 
