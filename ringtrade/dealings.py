@@ -1,5 +1,7 @@
 """What the ways of dealing share: the best thing left, its owner, who stands behind whom, what was got."""
 
+from ringtrade.wishes import are_unlike, things_in
+
 
 def best_left(row, things):
     return [thing for thing in row if thing in things][0]
@@ -28,3 +30,7 @@ def got_in(rings):
 
 def dealing_of(got):
     return tuple([got[hand] for hand in range(len(got))])
+
+
+def is_dealing(wishes, told):
+    return len(told) == len(wishes) and are_unlike(told, things_in(wishes))

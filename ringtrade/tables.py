@@ -4,11 +4,12 @@ from ringtrade.dealings import ones_behind
 from ringtrade.errors import NoTable
 from ringtrade.fractions import NOUGHT, ONE, fraction, has_worth, least, less, minus, plus, total
 from ringtrade.steps import ring_of_steps
-from ringtrade.wishes import likes, refuse_too_many_rows
+from ringtrade.wishes import are_unlike, is_below, is_square, is_whole, likes, refuse_too_many_rows
 
 
 def is_row_of_shares(row, many):
-    if len(row) != many or not all([has_worth(share) for share in row]):
+    # A dealing, asked for its rows, has a thing where a row should be.
+    if not isinstance(row, (list, tuple)) or len(row) != many or not all([has_worth(share) for share in row]):
         return False
     return not any([less(share, NOUGHT) for share in row]) and total(row) == ONE
 
@@ -17,15 +18,26 @@ def in_lowest_terms(row):
     return tuple([fraction(top, bottom) for top, bottom in row])
 
 
-def table_of(rows):
-    refuse_too_many_rows(rows)
+def why_no_table(rows):
     for place, row in enumerate(rows):
         if not is_row_of_shares(row, len(rows)):
-            raise NoTable(("row", place))
+            return ("row", place)
     for place in range(len(rows)):
         if total([row[place] for row in rows]) != ONE:
-            raise NoTable(("column", place))
+            return ("column", place)
+    return None
+
+
+def table_of(rows):
+    refuse_too_many_rows(rows)
+    why = why_no_table(rows)
+    if why is not None:
+        raise NoTable(why)
     return tuple([in_lowest_terms(row) for row in rows])
+
+
+def is_table(wishes, told):
+    return is_square(wishes) and len(told) == len(wishes) and why_no_table(told) is None
 
 
 def hands_that_rise(wishes, table, thing, other):
@@ -61,6 +73,17 @@ def heights(wishes, table):
     return tuple(told)
 
 
+def rises_from(steps, numbers, thing):
+    return all([numbers[other] > numbers[thing] for other in steps[thing]])
+
+
+def are_heights(wishes, table, numbers):
+    if len(numbers) != len(table) or not all([is_whole(number) and number >= 0 for number in numbers]):
+        return False
+    steps = steps_up(wishes, table)
+    return all([rises_from(steps, numbers, thing) for thing in steps])
+
+
 def share_ring(wishes, table):
     things = ring_of_steps(steps_up(wishes, table))
     if things is None:
@@ -71,8 +94,22 @@ def share_ring(wishes, table):
     return tuple(ring)
 
 
+def is_share_ring(wishes, table, ring):
+    hands = [hand for hand, thing in ring]
+    things = [thing for hand, thing in ring]
+    if not ring or not are_unlike(things, len(table)) or not all([is_below(hand, len(table)) for hand in hands]):
+        return False
+    # A ring of one pair is none, for no hand likes a thing better than this one itself.
+    steps = list(zip(hands, things, ones_behind(things)))
+    return all([hand in hands_that_rise(wishes, table, thing, other) for hand, thing, other in steps])
+
+
 def can_hand(table, ring):
     return least([table[hand][thing] for hand, thing in ring])
+
+
+def can_be_handed(table, ring, part):
+    return has_worth(tuple(part)) and less(NOUGHT, part) and not less(can_hand(table, ring), part)
 
 
 def handed(table, ring, part):

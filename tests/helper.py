@@ -6,6 +6,11 @@ from fractions import Fraction
 from itertools import accumulate, permutations, product
 
 from ringtrade.errors import NoOrder
+from ringtrade.texts import rows_read
+
+HALF = (1, 2)
+NOUGHT = (0, 1)
+ONE = (1, 1)
 
 # Lists that are no orders of three hands, each with the place that is told of it.
 NO_ORDERS = (
@@ -225,20 +230,27 @@ def all_tables(hands, parts):
     return [plain_table([[Fraction(part, parts) for part in row] for row in square]) for square in squares]
 
 
-def some_tables(many, seed, most=7):
-    """Wishes and tables of shares, mixed of a few dealings, the same ones each time."""
+def some_tables(many, seed, most=7, dealt=4):
+    """Wishes and tables of shares, mixed of at most so many dealings as dealt, the same ones each time."""
     source = random.Random(seed)
     asked = []
     for wishes, owns, dealing in some_square(many, seed, most):
         hands = len(wishes)
-        dealings = [source.sample(range(hands), hands) for turn in range(source.randint(1, 4))]
+        dealings = [source.sample(range(hands), hands) for turn in range(source.randint(1, dealt))]
         weights = [source.randint(1, 6) for mixed in dealings]
-        rows = [[0] * hands for hand in range(hands)]
-        for mixed, weight in zip(dealings, weights):
-            for hand, thing in enumerate(mixed):
-                rows[hand][thing] += Fraction(weight, sum(weights))
-        asked.append((wishes, plain_table(rows)))
+        parts = [Fraction(weight, sum(weights)) for weight in weights]
+        asked.append((wishes, plain_mixed(list(zip(parts, dealings)))))
     return asked
+
+
+def plain_mixed(parts):
+    """The table of parts (worth, dealing), of as many things as hands."""
+    many = len(parts[0][1])
+    rows = [[0] * many for hand in range(many)]
+    for worth, dealing in parts:
+        for hand, thing in enumerate(dealing):
+            rows[hand][thing] += worth
+    return plain_table(rows)
 
 
 def some_with_like_rows(many, seed, most=7):
@@ -255,6 +267,93 @@ def some_with_like_rows(many, seed, most=7):
 def has_like_shares_for_like_rows(wishes, table):
     places = list(zip(wishes, table))
     return all(shares == others for row, shares in places for other, others in places if row == other)
+
+
+def rings_of_owns(owns):
+    """Each ring that begins with its least hand, in which each gets what the next one owns."""
+    rings = []
+    for hands in all_rings_of_hands(len(owns)):
+        if hands[0] == min(hands):
+            behind = hands[1:] + hands[:1]
+            rings.append(tuple((hand, owns[other]) for hand, other in zip(hands, behind)))
+    return rings
+
+
+def plain_goes(wishes, owns, dealing, ring):
+    """Point 14 word for word: one of the rings there are, none worse, one better."""
+    if ring not in rings_of_owns(owns):
+        return False
+    steps = [wishes[hand].index(dealing[hand]) - wishes[hand].index(thing) for hand, thing in ring]
+    return min(steps) >= 0 and max(steps) > 0
+
+
+def all_ways(wishes, dealing):
+    """Each ring and each line that point 15 tells."""
+    left_over = [thing for thing in range(len(wishes[0])) if thing not in dealing]
+    ways = []
+    for hands in all_rings_of_hands(len(wishes)):
+        aims = [dealing[hand] for hand in hands]
+        if len(hands) > 1 and all_like_better(wishes, dealing, hands, aims[1:] + aims[:1]):
+            ways.append(("ring", hands))
+        for thing in left_over:
+            if all_like_better(wishes, dealing, hands, aims[1:] + [thing]):
+                ways.append(("line", hands, thing))
+    return ways
+
+
+def all_like_better(wishes, dealing, hands, things):
+    pairs = zip(hands, things)
+    return all(wishes[hand].index(thing) < wishes[hand].index(dealing[hand]) for hand, thing in pairs)
+
+
+def wishes_in(text):
+    return rows_read(text)[0]
+
+
+def sure_table(dealing):
+    return tuple(tuple(ONE if got == thing else NOUGHT for thing in range(len(dealing))) for got in dealing)
+
+
+def like_shares(hands):
+    return (((1, hands),) * hands,) * hands
+
+
+def rises(wishes, table):
+    """Pairs of things (lower, higher) of which point 23 asks that the second one's height is greater."""
+    things = range(len(wishes))
+    told = set()
+    for hand, (row, shares) in enumerate(zip(wishes, table)):
+        for lower, higher in product(things, repeat=2):
+            if shares[lower][0] > 0 and row.index(higher) < row.index(lower):
+                told.add((lower, higher))
+    return told
+
+
+def are_heights(wishes, table, told):
+    return all(told[higher] > told[lower] for lower, higher in rises(wishes, table))
+
+
+def is_share_ring(wishes, table, ring):
+    """Point 24 word for word."""
+    things = [thing for hand, thing in ring]
+    if len(ring) < 2 or len(set(things)) != len(things):
+        return False
+    for (hand, thing), aim in zip(ring, things[1:] + things[:1]):
+        row = wishes[hand]
+        if not Fraction(*table[hand][thing]) > 0 or not row.index(aim) < row.index(thing):
+            return False
+    return True
+
+
+def all_share_rings(wishes, table):
+    hands = range(len(wishes))
+    rings = []
+    for many in range(2, len(wishes) + 1):
+        for things, in_it in product(permutations(hands, many), product(hands, repeat=many)):
+            ring = tuple(zip(in_it, things))
+            if is_share_ring(wishes, table, ring):
+                rings.append(ring)
+    return rings
 
 
 def stays_and_is_told_again(test, ask, *asked):

@@ -14,25 +14,6 @@ def betterment_of(text, dealing):
     return betterment(rows_read(text)[0], dealing)
 
 
-def all_ways(wishes, dealing):
-    """Each ring and each line that point 15 tells."""
-    left_over = [thing for thing in range(len(wishes[0])) if thing not in dealing]
-    ways = []
-    for hands in helper.all_rings_of_hands(len(wishes)):
-        aims = [dealing[hand] for hand in hands]
-        if len(hands) > 1 and all_like_better(wishes, dealing, hands, aims[1:] + aims[:1]):
-            ways.append(("ring", hands))
-        for thing in left_over:
-            if all_like_better(wishes, dealing, hands, aims[1:] + [thing]):
-                ways.append(("line", hands, thing))
-    return ways
-
-
-def all_like_better(wishes, dealing, hands, things):
-    pairs = zip(hands, things)
-    return all(wishes[hand].index(thing) < wishes[hand].index(dealing[hand]) for hand, thing in pairs)
-
-
 def small_sizes():
     return ((1, 1), (1, 2), (1, 3), (2, 2), (2, 3), (3, 3))
 
@@ -74,7 +55,7 @@ class BettermentTest(unittest.TestCase):
         wishes = rows_read("B A C; C B A")[0]
         way = betterment(wishes, (0, 1))
         self.assertEqual(way[0], "line")
-        self.assertIn(way, all_ways(wishes, (0, 1)))
+        self.assertIn(way, helper.all_ways(wishes, (0, 1)))
 
     def test_a_ring_where_there_is_no_line(self):
         kind, hands = betterment_of("B A C; A B C", (0, 1))
@@ -90,7 +71,7 @@ class BettermentTest(unittest.TestCase):
 
     def asks(self, wishes, dealing):
         way = betterment(wishes, dealing)
-        ways = all_ways(wishes, dealing)
+        ways = helper.all_ways(wishes, dealing)
         if (way not in ways) if ways else (way is not None):
             self.fail(f"{wishes} {dealing}: {way}")
         return way
@@ -170,14 +151,14 @@ class BetteredTest(unittest.TestCase):
     def test_by_each_way_of_all_small_dealings(self):
         for hands, things in small_sizes():
             for wishes, dealing in product(helper.all_wishes(hands, things), helper.all_dealings(hands, things)):
-                for way in all_ways(wishes, dealing):
+                for way in helper.all_ways(wishes, dealing):
                     self.asks(wishes, dealing, way)
 
     def test_by_each_way_of_some_greater_dealings(self):
         seen = set()
         for wishes, dealing in helper.some_dealings(70, 35):
             if len(wishes) < 5 and len(wishes[0]) < 7:
-                for way in all_ways(wishes, dealing):
+                for way in helper.all_ways(wishes, dealing):
                     seen.add((way[0], len(way[1])))
                     self.asks(wishes, dealing, way)
         self.assertLessEqual({("ring", 2), ("ring", 3), ("line", 1), ("line", 2), ("line", 3)}, seen)

@@ -8,12 +8,7 @@ from math import lcm
 from ringtrade.eating import eaten, no_less, sums_along
 from ringtrade.errors import NotSquare
 from ringtrade.tables import heights
-from ringtrade.texts import rows_read
 from tests import helper
-
-
-def wishes_in(text):
-    return rows_read(text)[0]
 
 
 def plain_eaten(wishes):
@@ -52,10 +47,10 @@ def bite_by_bite(wishes, bites):
 
 class EatenTest(unittest.TestCase):
     def test_one_hand(self):
-        self.assertEqual(eaten(wishes_in("A")), ((((1, 1),),), [((1, 1), (0,))]))
+        self.assertEqual(eaten(helper.wishes_in("A")), ((((1, 1),),), [((1, 1), (0,))]))
 
     def test_unlike_best_things_are_eaten_up_at_one_time(self):
-        table, log = eaten(wishes_in("B A C; C B A; A C B"))
+        table, log = eaten(helper.wishes_in("B A C; C B A; A C B"))
         self.assertEqual(table, (((0, 1), (1, 1), (0, 1)), ((0, 1), (0, 1), (1, 1)), ((1, 1), (0, 1), (0, 1))))
         self.assertEqual(log, [((1, 1), (0, 1, 2))])
 
@@ -67,14 +62,14 @@ class EatenTest(unittest.TestCase):
             self.assertEqual(log, [(time, (thing,)) for thing, time in enumerate(times)])
 
     def test_two_hands_that_eat_of_one_thing_and_one_that_comes_later(self):
-        table, log = eaten(wishes_in("A B C; A C B; B A C"))
+        table, log = eaten(helper.wishes_in("A B C; A C B; B A C"))
         self.assertEqual(table, (((1, 2), (1, 4), (1, 4)), ((1, 2), (0, 1), (1, 2)), ((0, 1), (3, 4), (1, 4))))
         self.assertEqual(log, [((1, 2), (0,)), ((3, 4), (1,)), ((1, 1), (2,))])
 
     def test_several_things_eaten_up_at_one_time_ahead_of_the_end(self):
         half, nought = (1, 2), (0, 1)
         rows = ((half, nought, half, nought), (nought, half, nought, half))
-        table, log = eaten(wishes_in("B A D C; A B C D; B A D C; A B C D"))
+        table, log = eaten(helper.wishes_in("B A D C; A B C D; B A D C; A B C D"))
         self.assertEqual(table, (rows[1], rows[0], rows[1], rows[0]))
         self.assertEqual(log, [((1, 2), (0, 1)), ((1, 1), (2, 3))])
 
@@ -154,16 +149,16 @@ class EatenTest(unittest.TestCase):
 
 class SumsAlongTest(unittest.TestCase):
     def test_sums(self):
-        wishes = wishes_in("A B C; C A B; B C A")
+        wishes = helper.wishes_in("A B C; C A B; B C A")
         shares = ((1, 2), (1, 3), (1, 6))
         self.assertEqual(sums_along(wishes, 0, shares), [(1, 2), (5, 6), (1, 1)])
         self.assertEqual(sums_along(wishes, 1, shares), [(1, 6), (2, 3), (1, 1)])
         self.assertEqual(sums_along(wishes, 2, shares), [(1, 3), (1, 2), (1, 1)])
 
     def test_one_thing_and_more_things_than_hands(self):
-        self.assertEqual(sums_along(wishes_in("A"), 0, ((1, 1),)), [(1, 1)])
+        self.assertEqual(sums_along(helper.wishes_in("A"), 0, ((1, 1),)), [(1, 1)])
         shares = ((0, 1), (1, 4), (3, 4))
-        self.assertEqual(sums_along(wishes_in("C A B"), 0, shares), [(3, 4), (3, 4), (1, 1)])
+        self.assertEqual(sums_along(helper.wishes_in("C A B"), 0, shares), [(3, 4), (3, 4), (1, 1)])
 
     def test_against_a_plain_reckoning(self):
         for wishes, table in helper.some_tables(210, 66):
@@ -173,7 +168,7 @@ class SumsAlongTest(unittest.TestCase):
                 self.assertEqual(told, [helper.pair_of(worth) for worth in helper.plain_sums(wishes[hand], shares)])
 
     def test_the_sums_are_a_new_list(self):
-        wishes = wishes_in("A B; B A")
+        wishes = helper.wishes_in("A B; B A")
         shares = ((1, 3), (2, 3))
         told = sums_along(wishes, 1, shares)
         told.append((7, 1))
@@ -184,13 +179,13 @@ class SumsAlongTest(unittest.TestCase):
 
 class NoLessTest(unittest.TestCase):
     def test_equal_shares(self):
-        wishes = wishes_in("A B C; C A B; B C A")
+        wishes = helper.wishes_in("A B C; C A B; B C A")
         shares = ((1, 2), (1, 3), (1, 6))
         for hand in range(3):
             self.assertIs(no_less(wishes, hand, shares, shares), True)
 
     def test_more_and_less(self):
-        wishes = wishes_in("A B C; C B A; A B C")
+        wishes = helper.wishes_in("A B C; C B A; A B C")
         more, others = ((1, 2), (1, 2), (0, 1)), ((1, 2), (1, 4), (1, 4))
         self.assertIs(no_less(wishes, 0, more, others), True)
         self.assertIs(no_less(wishes, 0, others, more), False)
@@ -198,13 +193,13 @@ class NoLessTest(unittest.TestCase):
         self.assertIs(no_less(wishes, 1, others, more), True)
 
     def test_more_at_one_height_and_less_at_another(self):
-        wishes = wishes_in("A B C; A B C; A B C")
+        wishes = helper.wishes_in("A B C; A B C; A B C")
         one, other = ((1, 2), (0, 1), (1, 2)), ((1, 3), (1, 3), (1, 3))
         self.assertIs(no_less(wishes, 0, one, other), False)
         self.assertIs(no_less(wishes, 0, other, one), False)
 
     def test_less_at_the_last_height_alone(self):
-        wishes = wishes_in("A B")
+        wishes = helper.wishes_in("A B")
         self.assertIs(no_less(wishes, 0, ((1, 2), (1, 4)), ((1, 2), (1, 2))), False)
         self.assertIs(no_less(wishes, 0, ((1, 2), (1, 2)), ((1, 2), (1, 4))), True)
 

@@ -20,24 +20,6 @@ def goers_from(text, dealing):
     return goers(wishes, owns, dealing)
 
 
-def rings_of_owns(owns):
-    """Each ring that begins with its least hand, in which each gets what the next one owns."""
-    rings = []
-    for hands in helper.all_rings_of_hands(len(owns)):
-        if hands[0] == min(hands):
-            behind = hands[1:] + hands[:1]
-            rings.append(tuple((hand, owns[other]) for hand, other in zip(hands, behind)))
-    return rings
-
-
-def plain_goes(wishes, owns, dealing, ring):
-    """Point 14 word for word: one of the rings there are, none worse, one better."""
-    if ring not in rings_of_owns(owns):
-        return False
-    steps = [wishes[hand].index(dealing[hand]) - wishes[hand].index(thing) for hand, thing in ring]
-    return min(steps) >= 0 and max(steps) > 0
-
-
 class GoesTest(unittest.TestCase):
     def test_one_hand_alone(self):
         text = "A* B; A B*"
@@ -161,26 +143,26 @@ class GoesTest(unittest.TestCase):
 
     def asks(self, wishes, owns, dealing, ring):
         told = goes(wishes, owns, dealing, ring)
-        if told is not plain_goes(wishes, owns, dealing, ring):
+        if told is not helper.plain_goes(wishes, owns, dealing, ring):
             self.fail(f"{wishes} {owns} {dealing} {ring}: {told}")
 
     def test_each_ring_of_owns_of_small_wishes(self):
         for hands in (1, 2, 3):
             for owns in helper.all_owned(hands):
-                rings = rings_of_owns(owns)
+                rings = helper.rings_of_owns(owns)
                 for wishes, dealing in product(helper.all_wishes(hands, hands), helper.all_dealings(hands, hands)):
                     for ring in rings:
                         self.asks(wishes, owns, dealing, ring)
 
     def test_each_ring_of_owns_of_some_greater_wishes(self):
         for wishes, owns, dealing in helper.some_square(60, 22, 5):
-            for ring in rings_of_owns(owns):
+            for ring in helper.rings_of_owns(owns):
                 self.asks(wishes, owns, dealing, ring)
 
     def test_asked_again_and_what_is_handed_in_stays(self):
         for wishes, owns, dealing in helper.some_square(40, 23, 4):
             before = helper.copies((wishes, owns, dealing))
-            for ring in rings_of_owns(owns):
+            for ring in helper.rings_of_owns(owns):
                 first = goes(wishes, owns, dealing, ring)
                 self.assertIs(goes(wishes, owns, dealing, ring), first)
             self.assertEqual(goers(wishes, owns, dealing), goers(wishes, owns, dealing))
@@ -228,7 +210,7 @@ class GoersTest(unittest.TestCase):
             self.fail(f"{wishes} {owns} {dealing}: {told}")
         if (told is None) != (dealing == by_rings(wishes, owns)):
             self.fail(f"{wishes} {owns} {dealing}: {told}")
-        if told is not None and not plain_goes(wishes, owns, dealing, told):
+        if told is not None and not helper.plain_goes(wishes, owns, dealing, told):
             self.fail(f"{wishes} {owns} {dealing}: by {told} they don't go")
         if told is not None:
             self.assertIs(goes(wishes, owns, dealing, told), True)
@@ -256,13 +238,13 @@ class GoersTest(unittest.TestCase):
     def test_no_group_goes_from_the_dealing_by_rings(self):
         for hands in (1, 2, 3):
             for owns in helper.all_owned(hands):
-                rings = rings_of_owns(owns)
+                rings = helper.rings_of_owns(owns)
                 for wishes in helper.all_wishes(hands, hands):
                     dealing = by_rings(wishes, owns)
                     self.assertFalse(any(goes(wishes, owns, dealing, ring) for ring in rings))
         for wishes, owns, dealing in helper.some_square(60, 26, 5):
             dealing = by_rings(wishes, owns)
-            self.assertFalse(any(goes(wishes, owns, dealing, ring) for ring in rings_of_owns(owns)))
+            self.assertFalse(any(goes(wishes, owns, dealing, ring) for ring in helper.rings_of_owns(owns)))
 
 
 class NotOwnedTest(unittest.TestCase):

@@ -1,7 +1,7 @@
 """The package keeps to the small part of Python that LANGUAGE.md tells.
 
 Asked here is what is easily seen: files, signs, sizes, forms, names, methods and imports. Not asked, or only in
-part, are L13, L15, L18, L19, L22 to L24, L26 to L28: those are for the reader.
+part, are L13, L15, L18, L19, L22 to L24, L26 to L28: what is left of those is for the reader.
 """
 
 import ast
@@ -74,6 +74,10 @@ def each(kind):
         for node in ast.walk(tree):
             if isinstance(node, kind):
                 yield f"{stem}.py, line {getattr(node, 'lineno', 0)}", node
+
+
+def is_call_of(node, *names):
+    return isinstance(node.func, ast.Name) and node.func.id in names
 
 
 class LanguageTest(unittest.TestCase):
@@ -159,6 +163,35 @@ class LanguageTest(unittest.TestCase):
         for where, node in each(ast.Call):
             if isinstance(node.func, ast.Attribute):
                 self.assertIn(node.func.attr, METHODS | own, where)
+
+    def test_own_methods_and_values(self):
+        methods = {node.name for where, kind in each(ast.ClassDef) for node in kind.body if hasattr(node, "name")}
+        stored = {node.attr for where, node in each(ast.Attribute) if isinstance(node.ctx, ast.Store)}
+        pythons = {name for kind in (str, int, list, dict, set, bytes, tuple) for name in dir(kind)}
+        self.assertEqual(sorted(methods & stored), [])
+        self.assertEqual(sorted((methods - OWN_UNDERSCORES) & pythons), [])
+        self.assertEqual(sorted(stored & (pythons | {"args"})), [])
+
+    def test_no_method_stands_twice(self):
+        for where, kind in each(ast.ClassDef):
+            names = [node.name for node in kind.body if isinstance(node, ast.FunctionDef)]
+            self.assertEqual(len(names), len(set(names)), where)
+
+    def test_what_is_raised_is_made_on_the_spot(self):
+        classes = {node.name for where, node in each(ast.ClassDef)}
+        for where, node in each(ast.Raise):
+            self.assertIsInstance(node.exc, ast.Call, where)
+            self.assertIn(node.exc.func.id, classes, where)
+
+    def test_what_is_walked_is_not_kept(self):
+        for where, node in each((ast.Assign, ast.Return)):
+            if isinstance(node.value, ast.Call) and isinstance(node.value.func, ast.Name):
+                self.assertNotIn(node.value.func.id, ("zip", "enumerate", "reversed", "range"), where)
+
+    def test_a_set_stands_within_len_or_sorted(self):
+        within = [ast.dump(node.args[0]) for where, node in each(ast.Call) if is_call_of(node, "len", "sorted")]
+        for where, node in each(ast.Call):
+            self.assertTrue(not is_call_of(node, "set", "frozenset") or ast.dump(node) in within, where)
 
     def test_imports(self):
         tops = {stem: {getattr(node, "name", None) for node in tree.body} for stem, tree in trees()}

@@ -6,12 +6,7 @@ from itertools import permutations
 
 from ringtrade.errors import NotSquare, TooMany
 from ringtrade.lots import lot, lot_of_ownings
-from ringtrade.texts import rows_read
 from tests import helper
-
-
-def wishes_in(text):
-    return rows_read(text)[0]
 
 
 def like_wishes(hands, things):
@@ -44,18 +39,18 @@ def plain_lot_of_ownings(wishes):
 
 class LotTest(unittest.TestCase):
     def test_one_hand(self):
-        self.assertEqual(lot(wishes_in("A")), (((1, 1),),))
-        self.assertEqual(lot(wishes_in("C A B")), (((0, 1), (0, 1), (1, 1)),))
+        self.assertEqual(lot(helper.wishes_in("A")), (((1, 1),),))
+        self.assertEqual(lot(helper.wishes_in("C A B")), (((0, 1), (0, 1), (1, 1)),))
 
     def test_two_hands(self):
-        self.assertEqual(lot(wishes_in("A B; A B")), (((1, 2), (1, 2)), ((1, 2), (1, 2))))
-        self.assertEqual(lot(wishes_in("A B; B A")), (((1, 1), (0, 1)), ((0, 1), (1, 1))))
-        self.assertEqual(lot(wishes_in("A B C; A C B")), (((1, 2), (1, 2), (0, 1)), ((1, 2), (0, 1), (1, 2))))
+        self.assertEqual(lot(helper.wishes_in("A B; A B")), (((1, 2), (1, 2)), ((1, 2), (1, 2))))
+        self.assertEqual(lot(helper.wishes_in("A B; B A")), (((1, 1), (0, 1)), ((0, 1), (1, 1))))
+        self.assertEqual(lot(helper.wishes_in("A B C; A C B")), (((1, 2), (1, 2), (0, 1)), ((1, 2), (0, 1), (1, 2))))
 
     def test_a_lot_that_is_not_the_eaten_table(self):
         five, one = (5, 12), (1, 12)
         rows = ((five, one, five, one), (one, five, one, five))
-        told = lot(wishes_in("A B C D; A B C D; B A D C; B A D C"))
+        told = lot(helper.wishes_in("A B C D; A B C D; B A D C; B A D C"))
         self.assertEqual(told, (rows[0], rows[0], rows[1], rows[1]))
 
     def test_like_rows_of_one_to_five_hands_and_more_things(self):
@@ -94,13 +89,13 @@ class LotTest(unittest.TestCase):
 
 class LotOfOwningsTest(unittest.TestCase):
     def test_one_hand(self):
-        self.assertEqual(lot_of_ownings(wishes_in("A")), (((1, 1),),))
+        self.assertEqual(lot_of_ownings(helper.wishes_in("A")), (((1, 1),),))
 
     def test_two_and_three_hands(self):
-        self.assertEqual(lot_of_ownings(wishes_in("A B; A B")), (((1, 2), (1, 2)), ((1, 2), (1, 2))))
-        self.assertEqual(lot_of_ownings(wishes_in("B A; A B")), (((0, 1), (1, 1)), ((1, 1), (0, 1))))
+        self.assertEqual(lot_of_ownings(helper.wishes_in("A B; A B")), (((1, 2), (1, 2)), ((1, 2), (1, 2))))
+        self.assertEqual(lot_of_ownings(helper.wishes_in("B A; A B")), (((0, 1), (1, 1)), ((1, 1), (0, 1))))
         self.assertEqual(
-            lot_of_ownings(wishes_in("A B C; A B C; B A C")),
+            lot_of_ownings(helper.wishes_in("A B C; A B C; B A C")),
             (((1, 2), (1, 6), (1, 3)), ((1, 2), (1, 6), (1, 3)), ((0, 1), (2, 3), (1, 3))),
         )
 
@@ -148,7 +143,7 @@ class LikeRowsTest(unittest.TestCase):
                 self.assertTrue(helper.has_like_shares_for_like_rows(wishes, told))
 
     def test_with_more_things_than_hands_too(self):
-        told = lot(wishes_in("B C A D E; A B C D E; B C A D E; A B C D E"))
+        told = lot(helper.wishes_in("B C A D E; A B C D E; B C A D E; A B C D E"))
         self.assertEqual((told[0], told[1]), (told[2], told[3]))
 
 

@@ -2,30 +2,14 @@
 
 import unittest
 from fractions import Fraction
-from itertools import permutations, product
+from itertools import product
 
 from ringtrade.eating import eaten, no_less
 from ringtrade.errors import NoTable, TooMany
 from ringtrade.lots import lot
 from ringtrade.tables import can_hand, handed, heights, share_ring, table_of
-from ringtrade.texts import rows_read
 from tests import helper
-
-HALF = (1, 2)
-NOUGHT = (0, 1)
-ONE = (1, 1)
-
-
-def wishes_in(text):
-    return rows_read(text)[0]
-
-
-def sure_table(dealing):
-    return tuple(tuple(ONE if got == thing else NOUGHT for thing in range(len(dealing))) for got in dealing)
-
-
-def like_shares(hands):
-    return (((1, hands),) * hands,) * hands
+from tests.helper import HALF, NOUGHT, ONE
 
 
 def small_sizes():
@@ -37,49 +21,11 @@ def all_asked(hands, parts):
     return list(product(helper.all_wishes(hands, hands), helper.all_tables(hands, parts)))
 
 
-def rises(wishes, table):
-    """Pairs of things (lower, higher) of which point 23 asks that the second one's height is greater."""
-    things = range(len(wishes))
-    told = set()
-    for hand, (row, shares) in enumerate(zip(wishes, table)):
-        for lower, higher in product(things, repeat=2):
-            if shares[lower][0] > 0 and row.index(higher) < row.index(lower):
-                told.add((lower, higher))
-    return told
-
-
-def are_heights(wishes, table, told):
-    return all(told[higher] > told[lower] for lower, higher in rises(wishes, table))
-
-
 def searched_heights(wishes, table):
     """The least of all that are heights, looked for one by one below the number of things."""
     many = len(wishes)
-    found = [told for told in product(range(many), repeat=many) if are_heights(wishes, table, told)]
+    found = [told for told in product(range(many), repeat=many) if helper.are_heights(wishes, table, told)]
     return tuple(min(column) for column in zip(*found)) if found else None
-
-
-def is_share_ring(wishes, table, ring):
-    """Point 24 word for word."""
-    things = [thing for hand, thing in ring]
-    if len(ring) < 2 or len(set(things)) != len(things):
-        return False
-    for (hand, thing), aim in zip(ring, things[1:] + things[:1]):
-        row = wishes[hand]
-        if not Fraction(*table[hand][thing]) > 0 or not row.index(aim) < row.index(thing):
-            return False
-    return True
-
-
-def all_share_rings(wishes, table):
-    hands = range(len(wishes))
-    rings = []
-    for many in range(2, len(wishes) + 1):
-        for things, in_it in product(permutations(hands, many), product(hands, repeat=many)):
-            ring = tuple(zip(in_it, things))
-            if is_share_ring(wishes, table, ring):
-                rings.append(ring)
-    return rings
 
 
 def plain_handed(table, ring, part):
@@ -121,13 +67,13 @@ class TableOfTest(unittest.TestCase):
         self.assertEqual(table_of([[(great, great)]]), (((1, 1),),))
 
     def test_no_row_and_more_than_seven(self):
-        for rows in ([], like_shares(8), [[]] * 8, [[(1, 1)]] * 300):
+        for rows in ([], helper.like_shares(8), [[]] * 8, [[(1, 1)]] * 300):
             with self.assertRaises(TooMany):
                 table_of(list(rows))
 
     def test_one_to_seven_rows(self):
         for hands in range(1, 8):
-            self.assertEqual(table_of(list(like_shares(hands))), like_shares(hands))
+            self.assertEqual(table_of(list(helper.like_shares(hands))), helper.like_shares(hands))
 
     def test_a_row_too_short_or_too_long(self):
         self.refuses([[]], ("row", 0))
@@ -194,7 +140,7 @@ class TableOfTest(unittest.TestCase):
             self.assertEqual(table_of(table), table)
             self.assertEqual(table_of(list(table)), table)
             self.assertEqual(table_of([list(row) for row in table]), table)
-        self.assertEqual(table_of(lot(wishes_in("A B C; A C B; B A C"))), lot(wishes_in("A B C; A C B; B A C")))
+        self.assertEqual(table_of(lot(helper.wishes_in("A B C; A C B; B A C"))), lot(helper.wishes_in("A B C; A C B; B A C")))
 
     def test_what_is_done_to_the_rows_later_changes_nothing(self):
         rows = [[(1, 3), (2, 3)], [(2, 3), (1, 3)]]
@@ -209,34 +155,34 @@ class TableOfTest(unittest.TestCase):
 
 class HeightsTest(unittest.TestCase):
     def test_one_hand(self):
-        self.assertEqual(heights(wishes_in("A"), ((ONE,),)), (0,))
+        self.assertEqual(heights(helper.wishes_in("A"), ((ONE,),)), (0,))
 
     def test_each_has_its_best_thing(self):
-        self.assertEqual(heights(wishes_in("A B C; C A B; B A C"), sure_table((0, 2, 1))), (0, 0, 0))
+        self.assertEqual(heights(helper.wishes_in("A B C; C A B; B A C"), helper.sure_table((0, 2, 1))), (0, 0, 0))
 
     def test_like_rows(self):
         for hands in range(1, 8):
             wishes = (tuple(range(hands)),) * hands
-            self.assertEqual(heights(wishes, like_shares(hands)), tuple(range(hands - 1, -1, -1)))
+            self.assertEqual(heights(wishes, helper.like_shares(hands)), tuple(range(hands - 1, -1, -1)))
 
     def test_none_where_two_would_change(self):
-        self.assertIsNone(heights(wishes_in("B A; A B"), sure_table((0, 1))))
-        self.assertIsNone(heights(wishes_in("B A; A B"), like_shares(2)))
-        self.assertEqual(heights(wishes_in("B A; A B"), sure_table((1, 0))), (0, 0))
+        self.assertIsNone(heights(helper.wishes_in("B A; A B"), helper.sure_table((0, 1))))
+        self.assertIsNone(heights(helper.wishes_in("B A; A B"), helper.like_shares(2)))
+        self.assertEqual(heights(helper.wishes_in("B A; A B"), helper.sure_table((1, 0))), (0, 0))
 
     def test_a_share_of_nought_raises_nothing(self):
         table = ((HALF, HALF, NOUGHT), (HALF, HALF, NOUGHT), (NOUGHT, NOUGHT, ONE))
-        self.assertEqual(heights(wishes_in("A B C; A B C; C A B"), table), (1, 0, 0))
-        self.assertEqual(heights(wishes_in("A B C; A B C; B C A"), table), (2, 1, 0))
+        self.assertEqual(heights(helper.wishes_in("A B C; A B C; C A B"), table), (1, 0, 0))
+        self.assertEqual(heights(helper.wishes_in("A B C; A B C; B C A"), table), (2, 1, 0))
 
     def test_heights_that_are_not_side_by_side(self):
         # Thing 0 must stand above 1, and 1 above 2; thing 3 need stand above 2 alone.
         halves = (HALF, HALF, NOUGHT, NOUGHT)
         table = (halves, halves, (NOUGHT, NOUGHT, ONE, NOUGHT), (NOUGHT, NOUGHT, NOUGHT, ONE))
-        self.assertEqual(heights(wishes_in("A B C D; A B C D; D B C A; D A B C"), table), (2, 1, 0, 1))
+        self.assertEqual(heights(helper.wishes_in("A B C D; A B C D; D B C A; D A B C"), table), (2, 1, 0, 1))
 
     def test_the_lot_over_orders_may_have_none(self):
-        wishes = wishes_in("A B C D; A B C D; B A D C; B A D C")
+        wishes = helper.wishes_in("A B C D; A B C D; B A D C; B A D C")
         self.assertIsNone(heights(wishes, lot(wishes)))
         self.assertEqual(heights(wishes, eaten(wishes)[0]), (1, 1, 0, 0))
 
@@ -258,10 +204,10 @@ class HeightsTest(unittest.TestCase):
             told = heights(wishes, table)
             if told is not None:
                 self.assertIsInstance(told, tuple)
-                self.assertTrue(are_heights(wishes, table, told))
+                self.assertTrue(helper.are_heights(wishes, table, told))
                 # Each one is nought, or one above another one that must lie below it: so none can be less.
                 for thing, height in enumerate(told):
-                    below = [told[low] for low, high in rises(wishes, table) if high == thing]
+                    below = [told[low] for low, high in helper.rises(wishes, table) if high == thing]
                     self.assertEqual(height, max(below, default=-1) + 1)
 
     def test_what_is_handed_in_stays_and_asked_again_the_answer_is_the_same(self):
@@ -271,17 +217,17 @@ class HeightsTest(unittest.TestCase):
 
 class ShareRingTest(unittest.TestCase):
     def test_none(self):
-        self.assertIsNone(share_ring(wishes_in("A"), ((ONE,),)))
-        self.assertIsNone(share_ring(wishes_in("A B; A B"), like_shares(2)))
-        self.assertIsNone(share_ring(wishes_in("A B C; C A B; B A C"), sure_table((0, 2, 1))))
+        self.assertIsNone(share_ring(helper.wishes_in("A"), ((ONE,),)))
+        self.assertIsNone(share_ring(helper.wishes_in("A B; A B"), helper.like_shares(2)))
+        self.assertIsNone(share_ring(helper.wishes_in("A B C; C A B; B A C"), helper.sure_table((0, 2, 1))))
 
     def test_two_that_would_change(self):
-        for table in (sure_table((0, 1)), like_shares(2)):
-            self.assertIn(share_ring(wishes_in("B A; A B"), table), (((0, 0), (1, 1)), ((1, 1), (0, 0))))
+        for table in (helper.sure_table((0, 1)), helper.like_shares(2)):
+            self.assertIn(share_ring(helper.wishes_in("B A; A B"), table), (((0, 0), (1, 1)), ((1, 1), (0, 0))))
 
     def test_seven_that_would_change(self):
         wishes = tuple(tuple((hand + 1 - k) % 7 for k in range(7)) for hand in range(7))
-        ring = share_ring(wishes, sure_table(range(7)))
+        ring = share_ring(wishes, helper.sure_table(range(7)))
         turn = ring.index((0, 0))
         self.assertEqual(ring[turn:] + ring[:turn], tuple((hand, hand) for hand in range(7)))
 
@@ -291,7 +237,7 @@ class ShareRingTest(unittest.TestCase):
         if ring is not None:
             self.assertIsInstance(ring, tuple)
             self.assertTrue(all(isinstance(pair, tuple) for pair in ring))
-            self.assertTrue(is_share_ring(wishes, table, ring))
+            self.assertTrue(helper.is_share_ring(wishes, table, ring))
         return ring
 
     def test_all_small_tables(self):
@@ -301,7 +247,7 @@ class ShareRingTest(unittest.TestCase):
 
     def test_none_just_where_there_is_no_ring(self):
         for wishes, table in all_asked(2, 3) + all_asked(3, 2)[::3]:
-            self.assertEqual(self.asks(wishes, table) is None, not all_share_rings(wishes, table))
+            self.assertEqual(self.asks(wishes, table) is None, not helper.all_share_rings(wishes, table))
 
     def test_greater_ones(self):
         asked = helper.some_tables(700, 76)
@@ -351,10 +297,10 @@ class HandedTest(unittest.TestCase):
         self.assertEqual((wishes, table, ring), before)
 
     def test_all_and_less(self):
-        wishes, table = wishes_in("B A; A B"), like_shares(2)
+        wishes, table = helper.wishes_in("B A; A B"), helper.like_shares(2)
         ring = ((0, 0), (1, 1))
         self.assertEqual(can_hand(table, ring), HALF)
-        self.assertEqual(handed(table, ring, HALF), sure_table((1, 0)))
+        self.assertEqual(handed(table, ring, HALF), helper.sure_table((1, 0)))
         self.assertEqual(handed(table, ring, (1, 3)), (((1, 6), (5, 6)), ((5, 6), (1, 6))))
         self.asks(wishes, table, ring)
 
@@ -366,10 +312,10 @@ class HandedTest(unittest.TestCase):
         self.assertEqual(can_hand(table, ((0, 0), (2, 1), (1, 2))), (1, 4))
 
     def test_three_hands(self):
-        wishes, table = wishes_in("B A C; C B A; A C B"), sure_table((0, 1, 2))
+        wishes, table = helper.wishes_in("B A C; C B A; A C B"), helper.sure_table((0, 1, 2))
         ring = ((0, 0), (1, 1), (2, 2))
         self.assertEqual(can_hand(table, ring), ONE)
-        self.assertEqual(handed(table, ring, ONE), sure_table((1, 2, 0)))
+        self.assertEqual(handed(table, ring, ONE), helper.sure_table((1, 2, 0)))
         some = ((1, 4), (3, 4))
         self.assertEqual(
             handed(table, ring, (3, 4)),
@@ -378,14 +324,14 @@ class HandedTest(unittest.TestCase):
         self.asks(wishes, table, ring)
 
     def test_a_ring_that_begins_elsewhere(self):
-        table = sure_table((0, 1, 2))
+        table = helper.sure_table((0, 1, 2))
         self.assertEqual(handed(table, ((2, 2), (0, 0), (1, 1)), HALF), handed(table, ((0, 0), (1, 1), (2, 2)), HALF))
 
     def test_a_hand_that_stands_in_it_twice_side_by_side(self):
-        wishes = wishes_in("A B C; C A B; A B C")
+        wishes = helper.wishes_in("A B C; C A B; A B C")
         table = ((NOUGHT, HALF, HALF), (HALF, HALF, NOUGHT), (HALF, NOUGHT, HALF))
         ring = ((0, 2), (0, 1), (1, 0))
-        self.assertTrue(is_share_ring(wishes, table, ring))
+        self.assertTrue(helper.is_share_ring(wishes, table, ring))
         self.assertEqual(
             handed(table, ring, (1, 4)),
             (((1, 4), HALF, (1, 4)), ((1, 4), HALF, (1, 4)), (HALF, NOUGHT, HALF)),
@@ -394,17 +340,17 @@ class HandedTest(unittest.TestCase):
         self.asks(wishes, table, ring)
 
     def test_a_hand_that_stands_in_it_twice_with_others_between(self):
-        wishes = wishes_in("A B C D; D A B C; B D A C; A B C D")
+        wishes = helper.wishes_in("A B C D; D A B C; B D A C; A B C D")
         quarter = (1, 4)
         table = ((quarter,) * 4,) * 4
         for ring in (((0, 3), (1, 2), (0, 1), (2, 0)), ((0, 3), (1, 2), (0, 1), (1, 0))):
-            self.assertTrue(is_share_ring(wishes, table, ring))
+            self.assertTrue(helper.is_share_ring(wishes, table, ring))
             self.asks(wishes, table, ring)
 
     def test_all_rings_of_small_tables(self):
         twice = 0
         for wishes, table in all_asked(2, 3) + all_asked(3, 2)[::41]:
-            for ring in all_share_rings(wishes, table):
+            for ring in helper.all_share_rings(wishes, table):
                 self.asks(wishes, table, ring)
                 twice += len({hand for hand, thing in ring}) < len(ring)
         self.assertGreater(twice, 0)
@@ -429,8 +375,8 @@ class HandedTest(unittest.TestCase):
         table = (((1, great), (great - 1, great)), ((great - 1, great), (1, great)))
         ring = ((0, 0), (1, 1))
         self.assertEqual(can_hand(table, ring), (1, great))
-        self.assertEqual(handed(table, ring, (1, great)), sure_table((1, 0)))
-        self.asks(wishes_in("B A; A B"), table, ring)
+        self.assertEqual(handed(table, ring, (1, great)), helper.sure_table((1, 0)))
+        self.asks(helper.wishes_in("B A; A B"), table, ring)
 
 
 if __name__ == "__main__":
