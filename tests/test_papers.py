@@ -238,7 +238,7 @@ class GoesTest(PaperTest):
         pairs = list(product(range(-2, 3), repeat=2))
         rings = [ring for many in range(3) for ring in product(pairs, repeat=many)]
         for wishes, owns, dealing in product(helper.all_wishes(2, 2), helper.all_owned(2), helper.all_dealings(2, 2)):
-            for ring in rings[::3]:
+            for ring in rings:
                 truth = helper.plain_goes(wishes, owns, dealing, ring)
                 self.assertIs(Goes(owns, ring).shows(wishes, dealing), truth)
 
@@ -571,6 +571,15 @@ class HandingTest(PaperTest):
         self.assertGreater(shown, 70)
 
 
+def plain_parted(parts):
+    """The table of two hands to which at most two parts mix, or None where they are no such parts."""
+    if not parts or any(top < 1 or bottom < 1 or sorted(dealing) != [0, 1] for (top, bottom), dealing in parts):
+        return None
+    if len({dealing for part, dealing in parts}) < len(parts):
+        return None
+    return helper.plain_mixed([(Fraction(*part), dealing) for part, dealing in parts])
+
+
 class PartedTest(PaperTest):
     HALVES = [(HALF, (0, 1)), (HALF, (1, 0))]
 
@@ -660,6 +669,15 @@ class PartedTest(PaperTest):
         self.says(False, Parted(self.HALVES), ((0,),), ((ONE,),))
         self.says(False, Parted([(ONE, (0,))]), TWO, helper.sure_table((0, 1)))
         self.says(False, Parted([(ONE, (0, 1, 2))]), TWO, helper.sure_table((0, 1)))
+
+    def test_all_parts_of_small_numbers(self):
+        fractions = [(top, bottom) for bottom in (0, 1, 2) for top in (-1, 0, 1, 2)]
+        pairs = list(product(fractions, ((0, 1), (1, 0), (0, 0), (-1, 0), (0,))))
+        tables = helper.all_tables(2, 2)
+        for parts in [parts for many in range(3) for parts in product(pairs, repeat=many)]:
+            comes = plain_parted(parts)
+            for table in tables:
+                self.assertIs(Parted(parts).shows(TWO, table), table == comes)
 
     def test_greater_ones_by_what_was_told(self):
         for wishes, table in helper.some_tables(210, 128, 7, 9):
